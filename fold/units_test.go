@@ -1,0 +1,85 @@
+package fold
+
+import (
+	"slices"
+	"testing"
+
+	"carling/api"
+	"carling/face"
+	"carling/irun"
+	"carling/lower"
+	"carling/mean"
+	"carling/sexp"
+	"carling/tree"
+)
+
+// read is the unit of a text.
+func read(t testing.TB, text string) api.Unit {
+	t.Helper()
+	l, e, at := sexp.Parse(text)
+	if e != api.OK {
+		t.Fatalf("%s: Parse: %d at %d", text, e, at)
+	}
+	u, e, at := tree.Unit(l)
+	if e != api.OK {
+		t.Fatalf("%s: Unit: %d at %d", text, e, at)
+	}
+	return u
+}
+
+// lowered are all functions of units.
+func lowered(t testing.TB, l []api.Unit) []api.Code {
+	t.Helper()
+	var sigs []api.Sig
+	for _, u := range l {
+		sigs = append(sigs, face.Sigs(u)...)
+	}
+	var out []api.Code
+	for _, u := range l {
+		for i := range u.Funcs {
+			c, e := lower.Lower(u, i, sigs)
+			if e != api.OK {
+				t.Fatalf("%s, %d: %d", u.Name, i, e)
+			}
+			out = append(out, c)
+		}
+	}
+	return out
+}
+
+// P2: what comes of a function by what it means comes of it lowered and folded.
+func TestUnits(t *testing.T) {
+	texts := []string{
+		"(unit a) (fn f ((x pub)) pub (ret (+ x (* 5 6)))) (fn g () pub (let y 5) (let z (* y 6)) (if (< y z) ((set y (+ z 1))) ((set y 3))) (ret (sel z y 4)))",
+		"(unit b) (import a) (fn h ((t pub 4) (k sec)) sec (for i 0 4 (put t i (+ (at t i) (* i i)))) (let z 1) (for i 0 3 (set z (+ z z))) (ret (sel k z (call a.f (call a.g)))))",
+		"(unit c) (import a b) (fn m ((x pub) (u sec 2)) sec (new v sec 3) (let n 7) (put v 1 (<< n 2)) (if x ((for j 0 2 (put u j (+ (at v j) n)))) ((put u 0 (sel 0 x (at v 1))))) (ret (^ (at u 0) (call a.f x))))",
+	}
+	var l []api.Unit
+	for _, text := range texts {
+		l = append(l, read(t, text))
+	}
+	codes := lowered(t, l)
+	for _, other := range ways(t, codes) {
+		for _, x := range []uint32{0, 1, 5, 1 << 31} {
+			for name, args := range map[string][]uint32{"a.f": {x}, "a.g": {}, "b.h": {1, 2, x, 4, x}, "c.m": {x, 3, 4}} {
+				want, branches, e := mean.Run(l, name, args)
+				if e != api.OK {
+					t.Fatal(name, args, e)
+				}
+				o, b, e := irun.Run(other, name, args)
+				if e != api.OK || o.Result != want.Result || !slices.Equal(o.Arrays, want.Arrays) || !slices.Equal(b, branches) {
+					t.Errorf("%s of %d: %+v, %d, %d; not %+v, %d", name, args, o, b, e, want, branches)
+				}
+			}
+		}
+	}
+	for _, c := range codes {
+		if d := folding(t, c); Known(d) == Known(c) {
+			t.Errorf("nothing is folded of %s", lines(c))
+		}
+	}
+	// 5 times 6, of a.f, is worked out.
+	if !slices.ContainsFunc(folding(t, codes[0]).L, func(x api.Ir) bool { return x.Kind == api.IConst && x.N == 30 }) {
+		t.Error(lines(codes[0]))
+	}
+}
